@@ -1,0 +1,1 @@
+"""Shelfroutes: join engines that change their plan while rows still arrive and leave."""

@@ -1,0 +1,1 @@
+"""Names, rows, results and bags."""

@@ -1,0 +1,1 @@
+"""Queries: their tables, roles and tests."""

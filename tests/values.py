@@ -1,0 +1,64 @@
+"""Values of all kinds for the tests, and what is valid, told independently of the package."""
+
+import re
+
+from shelfroutes.base.bags import Bag
+from shelfroutes.errors import InvalidBag, UnknownName
+from shelfroutes.query.queries import Query
+
+LONGEST = 10 ** 60 - 1
+TOO_LONG = 10 ** 60
+
+TABLES = {"block": ("town",), "cus": ("code", "town"), "item": ("code",), "ord": ("code", "item")}
+TESTS = (("b", "town", "c", "town"), ("c", "code", "o", "code"), ("i", "code", "o", "item"))
+ROLES = {"b": ("none", "block"), "c": ("core", "cus"), "i": ("core", "item"), "o": ("core", "ord")}
+
+
+def shop_query():
+    return Query(TABLES, TESTS, **ROLES)
+
+
+def named(value):
+    return isinstance(value, str) and re.fullmatch("[a-z]{1,8}", value) is not None
+
+
+def whole(value):
+    return type(value) is int and len(str(abs(value))) <= 60
+
+
+def nested(make):
+    value = 1
+    for _ in range(10):
+        value = make(value)
+    return value
+
+
+def everything():
+    """New values of all kinds, among them many that are nearly a name, an integer, a row or a result."""
+    numbers = [0, 1, 2, 7, -1, 9, 10, LONGEST, -LONGEST, TOO_LONG, -TOO_LONG, 10 ** 99, -(10 ** 100 - 1)]
+    words = ["", " ", "\n", "a", "b", "c", "x", "cus", "town", "core", "none", "some", "optional", "side",
+             "abcdefgh", "abcdefghi", "A", "Cus", "a1", "a_b", "a b", "a\n", "\na", "1", "~", "`", "{",
+             "a" * 4000, "Core", "core ", "a.b", "None", "()"]
+    parts = numbers + words + [True, False, None]
+    tuples = [(part,) for part in parts] + [(1, part) for part in parts] + [(part, 1) for part in parts]
+    tuples += [("c", part) for part in parts] + [("core", part) for part in parts] + [(part, "cus") for part in parts]
+    tuples += [(), ((),), (1,) * 5, (1,) * 6, (1,) * 7, (1, 2, 3, 4, None), (1, 2, 3, 4, 5, None), (1, None, 2),
+               (1, None, None), (None, None), ((1, 2),), ((1, 2), 1), ([],), ({},), (1, []), (1, {}),
+               ("a", "b", "c", "d", "e", "f"), ("a", "b", "c", "d", "e", "f", "g"), ("b", "a"), ("a", "a"),
+               ("b", "town", "c", "town"), (("b", "town", "c", "town"),)]
+    lists = [[], [1], [1, 2], ["a"], ["core", "cus"], [None], [[]], [()], [(1, 2)]]
+    dicts = [{}, {1: 2}, {"a": ("b",)}, {"a": 1}, {(1,): 2}, {(1,): True}, {None: None}, {(): ()}, {"c": (1, 2)},
+             {"c": ("core", "cus")}, {1: ("core", "cus")}, {True: 1}]
+    deep = [nested(lambda value: (value,)), nested(lambda value: [value]), nested(lambda value: {1: value})]
+    return parts + tuples + lists + dicts + deep + objects()
+
+
+def objects():
+    """Objects of the package."""
+    return [Bag(), Bag({(1, 2): 3}), shop_query(), Query({"a": ("b",)}, c=("core", "a")),
+            InvalidBag("wrong"), UnknownName("a")]
+
+
+def those_not(is_valid):
+    """New values of all kinds that are not valid."""
+    return [value for value in everything() if not is_valid(value)]
