@@ -1,6 +1,7 @@
 import itertools
 import unittest
 
+import shelfroutes.base.bags as bags
 from shelfroutes.base.bags import Bag
 from shelfroutes.base.names import is_result
 from shelfroutes.errors import InvalidBag, InvalidNumber, InvalidOperation
@@ -55,6 +56,14 @@ class Made(unittest.TestCase):
         for value in those_not(is_told_numbers):
             with self.assertRaises(InvalidBag):
                 Bag(value)
+
+    def test_objects_of_the_module_are_no_numbers(self):
+        for kind in vars(bags).values():
+            if isinstance(kind, type) and kind.__module__ == bags.__name__:
+                with self.assertRaises(InvalidBag):
+                    Bag(kind.__new__(kind))
+                with self.assertRaises(InvalidBag):
+                    Bag({}, kind.__new__(kind))
 
     def test_one_invalid_entry(self):
         for key in those_not(is_result):
@@ -254,6 +263,28 @@ class Computed(unittest.TestCase):
         bag -= -bag
         self.assertEqual(bag[(2,)], -4 * LONGEST)
         self.assertTrue(bag.is_within(bag) and bag == bag * 1)
+
+    def test_numbers_of_several_dicts(self):
+        """A bag takes no number of more than sixty digits, but dicts of higher digits, each of them checked."""
+        bag = Bag({(1,): 5, (2,): LONGEST}, {(1,): -1, (3,): 2}, {(3,): 7})
+        self.assertEqual(bag.pairs(), (((1,), 5 - TOO_LONG), ((2,), LONGEST), ((3,), 2 * TOO_LONG + 7 * TOO_LONG ** 2)))
+        self.assertEqual(Bag({(1,): 0}, {}, {}), Bag())
+        for value in those_not(lambda value: value is not None and is_told_numbers(value)):
+            for parts in (({}, value), ({}, {}, value), ({}, value, {}), (None, value)):
+                with self.assertRaises(InvalidBag):
+                    Bag(*parts)
+
+    def test_digits_are_kept_by_all_operators(self):
+        numbers = [0, 1, -1, LONGEST, -LONGEST, 1 - TOO_LONG]
+        small = [Bag({(1,): one, (2,): other}) for one in numbers for other in numbers]
+        drawn = small + [LONGEST * bag for bag in small] + [LONGEST * (LONGEST * bag) for bag in small]
+        for at, bag in enumerate(drawn):
+            other = drawn[at * 7 % len(drawn)]
+            for made, told in ((bag + other, lambda one, two: one + two), (bag - other, lambda one, two: one - two),
+                               (-bag, lambda one, two: -one), (abs(bag), lambda one, two: abs(one)),
+                               (-3 * bag, lambda one, two: -3 * one)):
+                for result in ((1,), (2,)):
+                    self.assertEqual(made[result], told(bag[result], other[result]))
 
     def test_new_bags_are_independent(self):
         for made in (self.one + Bag(), Bag() + self.one, self.one - Bag(), self.one * 1, 1 * self.one, -self.one,

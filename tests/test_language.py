@@ -45,14 +45,6 @@ def has_docstring_place(tree, node):
     return False
 
 
-def changes_nothing(function):
-    name = function.name
-    if any(isinstance(part, ast.Name) and part.id == "property" for part in function.decorator_list):
-        return True
-    changing = ("__init__", "__setitem__", "__call__", "__enter__", "__exit__")
-    return name.startswith("__") and name not in changing and (not name.startswith("__i") or name == "__invert__")
-
-
 class Files(unittest.TestCase):
     def test_folder(self):
         """L1, L14: Python files alone, and an __init__.py in each folder."""
@@ -139,16 +131,6 @@ class Statements(unittest.TestCase):
         """L7: a class of the package has its own equality."""
         for path, node in nodes_of(ast.GeneratorExp):
             self.fail((path, node.lineno))
-
-    def test_what_changes_nothing(self):
-        """L5, L28: operators and properties assign no attribute and no item, and use no sign in place."""
-        for path, node in nodes_of(ast.FunctionDef):
-            if changes_nothing(node):
-                for part in ast.walk(node):
-                    place = (path, node.name)
-                    self.assertNotIsInstance(part, ast.AugAssign, place)
-                    if isinstance(part, (ast.Attribute, ast.Subscript)):
-                        self.assertIsInstance(part.ctx, ast.Load, place)
 
 
 class Names(unittest.TestCase):

@@ -3,8 +3,10 @@ import unittest
 
 from shelfroutes.errors import (InvalidNumber, InvalidOperation, InvalidQuery, InvalidRow, InvalidTable,
                                 UnknownName)
+import shelfroutes.query.queries as queries
 from shelfroutes.query.queries import MAX_CORE, MAX_SIDE, MAX_TABLES, MAX_TESTS, Query
-from tests.values import LONGEST, ROLES, TABLES, TESTS, everything, named, shop_query, those_not, whole
+from tests.shop import ROLES, TABLES, TESTS, shop_query
+from tests.values import LONGEST, everything, named, those_not, whole
 
 LETTERS = "abcdefghijklmnopqrstuvwxyz"
 SORTS = ("core", "some", "none", "optional")
@@ -89,6 +91,21 @@ class Tables(Checked):
         self.refused(InvalidTable, None, None, None)
         self.refused(InvalidTable, {}, TESTS, {})
         self.refused(InvalidQuery, TABLES, None, None)
+
+
+    def test_objects_of_the_module_are_no_tables(self):
+        for kind in vars(queries).values():
+            if isinstance(kind, type) and kind.__module__ == queries.__name__:
+                self.refused(InvalidTable, kind.__new__(kind), (), {"c": ("core", "a")})
+                self.refused(InvalidTable, kind.__new__(kind), 5, 5)
+
+    def test_roles_with_names_of_parameters(self):
+        roles = {"cls": ("core", "t"), "roles": ("core", "t"), "self": ("core", "t"), "tests": ("core", "t")}
+        query = Query.of({"t": ("a",)}, (("cls", "a", "self", "a"),), roles)
+        self.assertEqual((query.roles, query.core), (roles, ("cls", "roles", "self", "tests")))
+        self.assertIs(type(query), Query)
+        self.assertNotIn("a", query)
+        self.assertEqual(query.without("cls").roles, {role: roles[role] for role in ("roles", "self", "tests")})
 
 
 class Roles(Checked):

@@ -3,20 +3,16 @@
 import re
 
 from shelfroutes.base.bags import Bag
-from shelfroutes.errors import InvalidBag, UnknownName
+from shelfroutes.errors import InvalidBag, TooMany, UnknownName
+from shelfroutes.plan.plans import Plan
+from shelfroutes.plan.schemes import Draft
 from shelfroutes.query.queries import Query
+from shelfroutes.query.worlds import World
+from shelfroutes.run.engine import Engine
+from tests.shop import flat_plan, shop, shop_query
 
 LONGEST = 10 ** 60 - 1
 TOO_LONG = 10 ** 60
-
-TABLES = {"block": ("town",), "cus": ("code", "town"), "item": ("code",), "ord": ("code", "item")}
-TESTS = (("b", "town", "c", "town"), ("c", "code", "o", "code"), ("i", "code", "o", "item"))
-ROLES = {"b": ("none", "block"), "c": ("core", "cus"), "i": ("core", "item"), "o": ("core", "ord")}
-
-
-def shop_query():
-    return Query(TABLES, TESTS, **ROLES)
-
 
 def named(value):
     return isinstance(value, str) and re.fullmatch("[a-z]{1,8}", value) is not None
@@ -49,14 +45,23 @@ def everything():
     lists = [[], [1], [1, 2], ["a"], ["core", "cus"], [None], [[]], [()], [(1, 2)]]
     dicts = [{}, {1: 2}, {"a": ("b",)}, {"a": 1}, {(1,): 2}, {(1,): True}, {None: None}, {(): ()}, {"c": (1, 2)},
              {"c": ("core", "cus")}, {1: ("core", "cus")}, {True: 1}]
+    tuples += [("add", "c"), ("remove", "c"), ("add", "c", "i"), ("update", "so"), ("emit",), (("emit",),),
+               ("recount", "nb", "sb"), ("fill", "sco", "sc", "so"), (("clear", "sco"),), ("plain", ("c",)),
+               ("counter", "b"), ("cus", (1, 5)), ("add", "cus", (1, 5)), ("remove", 1), ("switch", "wide"),
+               ("load", "sco", 1), (("add", "cus", (1, 5)),), ("counterexample", ()), ("c", "o"), ("b", "c", "o"),
+               ("flat", ("out", "out", "out"), (0, 0, 0, 0), (), ((None, ()),))]
+    dicts += [{1: ("cus", (1, 5))}, {"sc": ("plain", ("c",))}, {("add", "c"): ((("emit",),),)}, {"c": (("emit",),)}]
     deep = [nested(lambda value: (value,)), nested(lambda value: [value]), nested(lambda value: {1: value})]
     return parts + tuples + lists + dicts + deep + objects()
 
 
 def objects():
     """Objects of the package."""
+    scheme = shop()
+    draft, engine = Draft(scheme), Engine(scheme)
     return [Bag(), Bag({(1, 2): 3}), shop_query(), Query({"a": ("b",)}, c=("core", "a")),
-            InvalidBag("wrong"), UnknownName("a")]
+            World(shop_query()), World(shop_query(), rows={1: ("cus", (1, 5))}), Plan(), flat_plan(), scheme, draft,
+            draft.group(), engine, engine.trial(), InvalidBag("wrong"), UnknownName("a"), TooMany(100)]
 
 
 def those_not(is_valid):

@@ -4,21 +4,23 @@ from shelfroutes.base.names import is_integer, is_result
 from shelfroutes.errors import InvalidBag, InvalidNumber, InvalidOperation
 
 
-class Tally:
-    """Numbers of results that were computed from bags.
-
-    A bag takes them without a check, as sums and products can have more digits than numbers that are passed.
-    """
-
-    def __init__(self, computed):
-        self.computed = computed
+# The least integer that has too many digits for a number that is passed.
+_UNIT = 10 ** 60
 
 
 class Bag:
-    """An integer for each result; finitely many are not 0."""
+    """An integer for each result; finitely many are not 0.
 
-    def __init__(self, numbers=None):
-        self._numbers = _kept_numbers(numbers)
+    Sums and products can have more digits than a number that is passed. So that a bag with such numbers can be
+    made from integers that are checked like all others, further dicts add to them in units of `_UNIT`, of its
+    square, and so on.
+    """
+
+    def __init__(self, numbers=None, *higher):
+        low = {} if numbers is None else numbers
+        if not all([_is_numbers(given) for given in (low, *higher)]):
+            raise InvalidBag("not a dict from results to integers")
+        self._numbers = _without_zeros(_put_together((low, *higher)))
         self._results = _in_order(self._numbers)
 
     @classmethod
@@ -80,32 +82,32 @@ class Bag:
         return f"bag of {len(self._results)} results"
 
     def __add__(self, other):
-        return Bag(Tally(_sums(self._numbers, _numbers_of(other), 1)))
+        return _bag_of(_sums(self._numbers, _numbers_of(other), 1))
 
     def __sub__(self, other):
-        return Bag(Tally(_sums(self._numbers, _numbers_of(other), -1)))
+        return _bag_of(_sums(self._numbers, _numbers_of(other), -1))
 
     def __neg__(self):
-        return Bag(Tally(_sums({}, self._numbers, -1)))
+        return _bag_of(_sums({}, self._numbers, -1))
 
     def __mul__(self, other):
         if not is_integer(other):
             raise InvalidOperation("a bag is multiplied by integers only")
-        return Bag(Tally(_sums({}, self._numbers, other)))
+        return _bag_of(_sums({}, self._numbers, other))
 
     def __rmul__(self, other):
         return self * other
 
     def __abs__(self):
-        return Bag(Tally({result: abs(self._numbers[result]) for result in self._numbers}))
+        return _bag_of({result: abs(self._numbers[result]) for result in self._numbers})
 
     def __iadd__(self, other):
-        self._numbers = _kept_numbers(Tally(_sums(self._numbers, _numbers_of(other), 1)))
+        self._numbers = _without_zeros(_sums(self._numbers, _numbers_of(other), 1))
         self._results = _in_order(self._numbers)
         return self
 
     def __isub__(self, other):
-        self._numbers = _kept_numbers(Tally(_sums(self._numbers, _numbers_of(other), -1)))
+        self._numbers = _without_zeros(_sums(self._numbers, _numbers_of(other), -1))
         self._results = _in_order(self._numbers)
         return self
 
@@ -118,23 +120,42 @@ class Bag:
         return isinstance(other, Bag) and self._numbers == other._numbers
 
 
-def _kept_numbers(numbers):
-    """A new dict of the numbers other than 0 of a tally, a dict or None."""
-    if isinstance(numbers, Tally):
-        given = numbers.computed
-    else:
-        given = _checked_numbers(numbers)
-    return {result: given[result] for result in given if given[result] != 0}
+def _is_numbers(value):
+    """Whether the value is a dict from results to integers."""
+    return isinstance(value, dict) and all([is_result(result) and is_integer(value[result]) for result in value])
 
 
-def _checked_numbers(numbers):
-    if numbers is None:
-        return {}
-    if not isinstance(numbers, dict):
-        raise InvalidBag("not a dict from results to integers")
-    if not all([is_result(result) and is_integer(numbers[result]) for result in numbers]):
-        raise InvalidBag("not a dict from results to integers")
-    return numbers
+def _put_together(parts):
+    """For each result the sum of its numbers in the dicts, each in greater units than the one before."""
+    sums = {}
+    unit = 1
+    for part in parts:
+        for result in part:
+            sums[result] = sums.get(result, 0) + unit * part[result]
+        unit = unit * _UNIT
+    return sums
+
+
+def _bag_of(numbers):
+    """The bag with these numbers, of whatever many digits."""
+    parts = []
+    rest = numbers
+    while len(rest) > 0:
+        part = {}
+        left = {}
+        for result in rest:
+            sign = -1 if rest[result] < 0 else 1
+            high, low = divmod(abs(rest[result]), _UNIT)
+            part[result] = sign * low
+            if high > 0:
+                left[result] = sign * high
+        parts.append(part)
+        rest = left
+    return Bag(*parts)
+
+
+def _without_zeros(numbers):
+    return {result: numbers[result] for result in numbers if numbers[result] != 0}
 
 
 def _numbers_of(value):

@@ -32,7 +32,17 @@ def is_result(value):
         return False
     has_gap = len(value) > 1 and value[-1] is None
     given = value[:-1] if has_gap else value
-    return all([is_integer(entry) and entry >= 1 for entry in given])
+    return all([is_key(entry) for entry in given])
+
+
+def is_key(value):
+    """Whether the value is an integer that a row can have as its key."""
+    return is_integer(value) and value >= 1
+
+
+def is_many(value):
+    """Whether the value is an integer that tells how many."""
+    return is_integer(value) and value >= 0
 
 
 def is_tuple(value, least, most):
@@ -43,3 +53,15 @@ def is_tuple(value, least, most):
 def ascends(values):
     """Whether a tuple of values that can be compared is strictly ascending."""
     return all([one < other for one, other in zip(values, values[1:])])
+
+
+def is_ascending(value, least, most):
+    """Whether the value is a strictly ascending tuple of at least and at most so many names."""
+    return is_tuple(value, least, most) and all([is_name(entry) for entry in value]) and ascends(value)
+
+
+def is_same(value, told):
+    """Whether a value equals tuples of integers, strings, booleans and None, and no integer stands for a boolean."""
+    if isinstance(told, tuple):
+        return is_tuple(value, len(told), len(told)) and all([is_same(one, two) for one, two in zip(value, told)])
+    return isinstance(value, bool) == isinstance(told, bool) and value == told

@@ -1,6 +1,6 @@
 """Queries: tables, core roles, side roles, and tests between their columns."""
 
-from shelfroutes.base.names import MAX_COLUMNS, ascends, is_integer, is_name, is_row, is_tuple
+from shelfroutes.base.names import MAX_COLUMNS, ascends, is_ascending, is_integer, is_name, is_row, is_tuple
 from shelfroutes.errors import InvalidNumber, InvalidOperation, InvalidQuery, InvalidRow, InvalidTable, UnknownName
 
 MAX_TABLES = 6
@@ -11,37 +11,30 @@ _MAX_SAMPLE = 9
 _SORTS = ("core", "none", "optional", "some")
 
 
-class Parts:
-    """The checked parts of a query.
-
-    They are passed on as one value, as roles called `self`, `tables` or `tests` cannot be keywords of `Query`.
-    """
-
-    def __init__(self, tables, tests, roles):
-        if not _is_tables(tables):
-            raise InvalidTable("not a dict from one to six names to columns")
-        if not _is_rest(tables, tests, roles):
-            raise InvalidQuery("roles and tests do not make a query of these tables")
-        self.by_table = {name: tables[name] for name in sorted(tables)}
-        self.by_role = {role: roles[role] for role in sorted(roles)}
-        self.compared = tests
-
-
 class Query:
     """A query; it never changes."""
 
     def __init__(self, tables, tests=(), **roles):
-        parts = tables if isinstance(tables, Parts) else Parts(tables, tests, roles)
-        self._tables = parts.by_table
-        self._roles = parts.by_role
-        self._tests = parts.compared
-        self._core = tuple([role for role in self._roles if self._roles[role][0] == "core"])
-        self._sides = tuple([role for role in self._roles if self._roles[role][0] != "core"])
+        self._keep(tables, tests, roles)
 
     @classmethod
     def of(cls, tables, tests, roles):
         """The query with a dict of roles, whatever they are called."""
-        return cls(Parts(tables, tests, roles))
+        # Roles called `self`, `tables` or `tests` cannot be keywords: they replace those of another query.
+        made = cls({"a": ("a",)}, (), a=("core", "a"))
+        made._keep(tables, tests, roles)
+        return made
+
+    def _keep(self, tables, tests, roles):
+        if not _is_tables(tables):
+            raise InvalidTable("not a dict from one to six names to columns")
+        if not _is_rest(tables, tests, roles):
+            raise InvalidQuery("roles and tests do not make a query of these tables")
+        self._tables = {name: tables[name] for name in sorted(tables)}
+        self._roles = {role: roles[role] for role in sorted(roles)}
+        self._tests = tests
+        self._core = tuple([role for role in self._roles if self._roles[role][0] == "core"])
+        self._sides = tuple([role for role in self._roles if self._roles[role][0] != "core"])
 
     @staticmethod
     def is_sort(value):
@@ -198,6 +191,23 @@ class Query:
         return has_roles and all([test in other._tests for test in self._tests])
 
 
+def is_table(query, value):
+    """Whether the value is one of the tables of a query."""
+    return is_name(value) and value in query.tables
+
+
+def is_row_of(query, table, value):
+    """Whether the value is a row of a table of a query."""
+    return is_row(value) and len(value) == len(query.tables[table])
+
+
+def is_ascending_roles(query, value):
+    """Whether the value is an ascending tuple of one or more roles of a query, at most one of them a side role."""
+    if not is_ascending(value, 1, MAX_CORE + 1) or not all([role in query for role in value]):
+        return False
+    return len([role for role in value if role in query.sides]) <= 1
+
+
 def _is_tables(value):
     if not isinstance(value, dict) or not 1 <= len(value) <= MAX_TABLES:
         return False
@@ -205,7 +215,7 @@ def _is_tables(value):
 
 
 def _is_columns(value):
-    return is_tuple(value, 1, MAX_COLUMNS) and all([is_name(column) for column in value]) and ascends(value)
+    return is_ascending(value, 1, MAX_COLUMNS)
 
 
 def _is_rest(tables, tests, roles):

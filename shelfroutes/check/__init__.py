@@ -1,0 +1,1 @@
+"""Histories of engines, and snapshots of one full match."""

@@ -1,0 +1,1 @@
+"""Stores, steps, plans and schemes."""

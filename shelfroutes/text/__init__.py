@@ -1,0 +1,1 @@
+"""Queries, plans and schemes as texts."""
