@@ -546,6 +546,39 @@ class Bounds(unittest.TestCase):
             with self.assertRaises(UnknownName):
                 engine.switch("x")
 
+    def test_an_append_to_what_is_held(self):
+        """Rows that left stay in a store: together with those of new rows these are too many matches."""
+        for many, is_refused in ((12, True), (11, False)):
+            engine = self.filled(self.engine({"p": {}, "q": {}}, {"p q": "append p sc sd", "q p": "clear sc"}), 40, 39)
+            engine.switch("q")
+            engine.switch("p")
+            for key in range(1, 21):
+                engine.remove(key)
+            for _ in range(many):
+                engine.add("k", (1,))
+            self.assertEqual(len(engine.held("p")), 1560)
+            if is_refused:
+                self.refused(engine, ("switch", "q"))
+            else:
+                engine.switch("q")
+                self.assertEqual(len(engine.held("p")), 1560 + 11 * 39)
+
+    def test_loads_of_several_keys(self):
+        engine = self.engine({"p": {}})
+        for key in [1] * 25 + [2] * 17 + [3] * 16:
+            engine.add("k", (key,))
+        for _ in range(42):
+            engine.add("m", (1,))
+        self.assertEqual(len(engine), 100)
+        engine.load("l", 1)
+        self.assertEqual(len(engine.held("l")), 25 * 42)
+        engine.load("l", 2)
+        self.assertEqual(len(engine.held("l")), 42 * 42)
+        self.refused(engine, ("load", "l", 3))
+        engine.evict("l", 2)
+        engine.load("l", 3)
+        self.assertEqual((len(engine.held("l")), engine.loaded("l")), (41 * 42, (1, 3)))
+
     def test_loads(self):
         engine = self.filled(self.engine({"p": {}}), 41, 49)
         self.refused(engine, ("load", "l", 1))
@@ -650,6 +683,43 @@ class Read(unittest.TestCase):
         self.assertTrue(stays == leaves)
         leaves.remove(1)
         self.assertFalse(stays == leaves)
+
+    def test_schemes_count_for_equality(self):
+        self.assertFalse(Engine(shop()) == Engine(lost()))
+
+    def test_what_stores_and_counters_hold_counts_for_equality(self):
+        """Two engines with the same plan, rows and output."""
+        one, other = Engine(shop()), Engine(shop())
+        for engine in (one, other):
+            for event in START[:2]:
+                engine(event)
+        one.switch("wide")
+        one.switch("flat")
+        self.assertEqual((one.output, one.world, one.held("sco").size), (other.output, other.world, 1))
+        self.assertFalse(one == other)
+        stores = {**STORES, "n": ("counter", "e")}
+        routes = {"add c": ["update sc"], "add e": ["join sc, count n"]}
+        scheme = scheme_of(pair_query("some"), stores, {"p": routes, "q": routes}, {"p q": "reset n", "q p": ""})
+        one, other = Engine(scheme), Engine(scheme)
+        for engine in (one, other):
+            engine.add("k", (1, 5))
+            engine.add("te", (5,))
+        self.assertTrue(one == other)
+        one.switch("q")
+        one.switch("p")
+        self.assertFalse(one == other)
+
+    def test_the_output_counts_for_equality(self):
+        scheme = scheme_of(pair_query(), STORES, {
+            "p": {"add c": ["update sc"], "add d": ["update sd, join sc, emit"]},
+            "q": {"add c": ["update sc"], "add d": ["update sd"]}}, {"p q": "", "q p": ""})
+        one, other = Engine(scheme), Engine(scheme)
+        for engine, events in ((one, ("add", "q", "p")), (other, ("q", "add", "p"))):
+            engine.add("k", (1, 5))
+            for word in events:
+                engine(("add", "m", (1, 0)) if word == "add" else ("switch", word))
+        self.assertEqual((one.world, one.plan, len(one.output), len(other.output)), (other.world, other.plan, 1, 0))
+        self.assertFalse(one == other)
 
     def test_loaded_keys_count_for_equality(self):
         one, other = (Engine(scheme_of(pair_query(), STORES, {"p": {}})) for _ in range(2))
@@ -813,6 +883,7 @@ class Trials(unittest.TestCase):
         engine.undo()
         twin = engine.twin()
         self.assertEqual((twin == engine, twin.log, twin.moves, type(twin)), (True, engine.log, engine.moves, Engine))
+        self.assertEqual((twin.redo(), twin[4], len(engine), twin.undo()), (5, ("block", (5,)), 3, 4))
         twin.remove(1)
         engine.redo()
         self.assertEqual((len(twin), len(engine), len(engine.output), twin.log[-1]), (2, 4, 0, ("remove", 1)))

@@ -277,6 +277,25 @@ class Bindings(unittest.TestCase):
         for name in imports:
             visit(name)
 
+    def test_strings_stand_on_one_line(self):
+        """L27: none but docstrings goes over two lines, and none stands directly beside another one."""
+        for path, tree in trees():
+            for node in ast.walk(tree):
+                if isinstance(node, ast.JoinedStr):
+                    self.assertEqual(node.lineno, node.end_lineno, path)
+            for node in ast.walk(tree):
+                for name, value in ast.iter_fields(node):
+                    if isinstance(value, ast.Constant) and isinstance(value.value, str) and not isinstance(node, ast.Expr):
+                        self.assertEqual(value.lineno, value.end_lineno, (path, value.lineno))
+
+    def test_names_of_properties(self):
+        """L5: a property has no name of a method."""
+        package = Package()
+        functions = [function for _, function in package.functions()]
+        properties = {function.name for function in functions if is_property(function)}
+        others = [function.name for function in functions if not is_property(function) and not is_setter(function)]
+        self.assertEqual(properties & set(others), set())
+
     def test_powers(self):
         """L27: exponents are literals."""
         for path, tree in trees():

@@ -30,14 +30,6 @@ def told_names(value):
     return isinstance(value, tuple) and len(value) == 2 and set(value) == {"flat", "wide"}
 
 
-def is_hashable(value):
-    try:
-        hash(value)
-    except TypeError:
-        return False
-    return True
-
-
 class Interface(unittest.TestCase):
     def test_constants(self):
         self.assertEqual((MAX_STORES, MAX_PLANS), (12, 6))
@@ -207,6 +199,8 @@ class Read(unittest.TestCase):
                   shop(plans={"flat": wide_plan(), "wide": wide_plan()}), Scheme(query, **GOOD),
                   shop(stores={**STORES, "nb": ("flag", "b")})]
         lasting = {"plans": {"flat": lasting_plan()}, "transitions": {}}
+        self.assertTrue(Scheme(shop_query(), **GOOD) == Scheme(shop_query(), **GOOD))
+        self.assertFalse(Scheme(query, **GOOD) == Scheme(shop_query(), **GOOD))
         self.assertFalse(shop(**lasting) == shop(lasting=("item",), **lasting))
         for other in others:
             self.assertFalse(scheme == other)

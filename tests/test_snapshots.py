@@ -114,6 +114,15 @@ class Forms(unittest.TestCase):
         for scheme in (shop(), wide_scheme(), optional_scheme()):
             self.assertIs(is_snapshot(scheme, first_snapshot(scheme)), True)
 
+    def test_counters_are_no_stores_of_core_roles(self):
+        """Also if the name of a side role begins with that of a core role."""
+        query = Query({"k": ("x",), "m": ("x",)}, (("c", "x", "ce", "x"),), c=("core", "k"), ce=("some", "m"))
+        stores = {"n": ("counter", "ce"), "sc": ("plain", ("c",)), "se": ("plain", ("ce",))}
+        scheme = scheme_of(query, stores, {"p": {"add c": ["update sc"], "add ce": ["update se"]}})
+        self.assertEqual(first_snapshot(scheme), ("p", ("out",), (0,), (), ((None, ()),)))
+        self.assertEqual(snapshot_after(scheme, first_snapshot(scheme), ("add", "ce"))[4],
+                         ((None, ((True, (1,), False),)),))
+
     def test_values_of_all_kinds(self):
         for scheme in (shop(), wide_scheme(), optional_scheme("flag")):
             for value in everything():

@@ -172,6 +172,11 @@ class Stores(unittest.TestCase):
         self.assertIs(is_stores(shop_query(), {**rest, "fb": ("flag", "b")}), True)
         for other in (("flag", "b"), ("counter", "b"), ("counter", "c"), ("flag", "x"), ("counter", ("b",))):
             self.assertIs(is_stores(shop_query(), {**STORES, "x": other}), False)
+        for other in (("counter", "b", "b"), ("some", "b"), ("counter",), ("Counter", "b"), ("flag", "b", ("b",)), "nb",
+                      ("counter", ("b",)), ["counter", "b"]):
+            self.assertIs(is_stores(shop_query(), {**rest, "nb": other}), False)
+        for other in (("plain", ("c",), ("c",)), ("plain",), ("store", ("c",)), ["plain", ("c",)]):
+            self.assertIs(is_stores(shop_query(), {**STORES, "x": other}), False)
         tests = (("c", "x", "e", "x"), ("c", "x", "f", "x"))
         query = Query({"k": ("x",), "m": ("x",), "n": ("x",)}, tests, c=("core", "k"), e=("some", "m"), f=("none", "n"))
         self.assertIs(is_stores(query, {"a": ("flag", "e"), "b": ("counter", "f")}), True)
@@ -200,6 +205,17 @@ class Stores(unittest.TestCase):
                              (("lazy", ("a", "b"), "a", "x", "sa"), False),
                              (("lazy", ("a", "b"), "a", "x", "sa", "sb", "sc"), False)):
             self.assertIs(told(x=entry), right, entry)
+
+    def test_a_counter_is_no_source(self):
+        """Also if the name of its role begins with that of a core role."""
+        query = Query({"k": ("x",), "m": ("x",)}, (("c", "x", "ce", "x"),), c=("core", "k"), d=("core", "k"),
+                      ce=("some", "m"))
+        stores = {"n": ("counter", "ce"), "sc": ("plain", ("c",)), "sd": ("plain", ("d",)), "se": ("plain", ("ce",))}
+        for one, other, told in (("sc", "sd", True), ("n", "sd", False), ("sd", "n", False), ("se", "sd", False)):
+            stores["l"] = ("lazy", ("c", "d"), "c", "x", one, other)
+            self.assertIs(is_stores(query, stores), told)
+            told_fill = is_transition_for(query, {**stores, "l": ("plain", ("c", "d"))}, (("fill", "l", one, other),))
+            self.assertIs(told_fill, told)
 
     def test_drawn_ones(self):
         for seed in range(200):

@@ -92,6 +92,9 @@ class Made(unittest.TestCase):
         for value in those_not(lambda value: isinstance(value, str) and value in query.tables):
             with self.assertRaises(InvalidRow):
                 World(query, rows={1: (value, (1, 5))})
+        for pair in (("cus", (1, 5), 1), ("cus",), ["cus", (1, 5)], ("cus", [1, 5]), ((1, 5), "cus")):
+            with self.assertRaises(InvalidRow):
+                World(query, rows={1: pair})
         for key in (0, -1, TOO_LONG, True, None, "a", (1,), ()):
             with self.assertRaises(InvalidRow):
                 World(query, rows={key: DAY[1]})

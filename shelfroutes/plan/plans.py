@@ -22,10 +22,8 @@ class Plan:
     @classmethod
     def both_ways(cls, pipelines):
         """The plan with these pipelines for arrivals, and without recounts for removals."""
-        if not isinstance(pipelines, dict) or not all([is_name(role) for role in pipelines]):
-            raise InvalidPlan("not a dict from names of roles to pipelines")
-        if not all([_are_pipelines(pipelines[role]) for role in pipelines]):
-            raise InvalidPlan("not tuples of at most four pipelines")
+        if not isinstance(pipelines, dict) or not all([_are_pipelines(pipelines[role]) for role in pipelines]):
+            raise InvalidPlan("not a dict from names of roles to tuples of at most four pipelines")
         given = {("add", role): pipelines[role] for role in pipelines}
         removals = {("remove", role): _without_recounts(pipelines[role]) for role in pipelines}
         return cls({**given, **removals})

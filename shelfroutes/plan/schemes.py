@@ -98,8 +98,8 @@ class Scheme:
                 and self._transitions == other._transitions and self._first == other._first)
 
     def __str__(self):
-        return (f"scheme of {len(self._plans)} plans, {len(self._stores)} stores and counters, "
-                f"{len(self._transitions)} transitions")
+        return ", ".join([f"scheme of {len(self._plans)} plans", f"{len(self._stores)} stores and counters",
+                          f"{len(self._transitions)} transitions"])
 
     def steps_of(self, name, other):
         """The transition from one plan to another one."""

@@ -172,8 +172,7 @@ def _is_right_change(query, stores, step):
         return False
     entry = stores[step[1]]
     if action in ("fill", "append"):
-        is_told = entry[0] == "plain" and len(entry[1]) >= 2
-        return is_told and make_up(query, stores, entry[1], step[2], step[3])
+        return entry[0] == "plain" and make_up(query, stores, entry[1], step[2], step[3])
     if action == "clear":
         return is_store(entry)
     if is_store(entry):

@@ -1,7 +1,7 @@
 """Worlds: which rows are there, and what the results of a query are for them."""
 
 from shelfroutes.base.bags import Bag
-from shelfroutes.base.names import is_key, is_name, is_tuple
+from shelfroutes.base.names import is_key, is_tuple
 from shelfroutes.errors import (InvalidNumber, InvalidOperation, InvalidQuery, InvalidRow, TooMany, UnknownKey,
                                 UnknownName)
 from shelfroutes.query.links import Partners
@@ -67,8 +67,6 @@ class World:
             raise InvalidNumber(key)
         if not is_table(self._query, table):
             raise UnknownName(table)
-        if not is_row_of(self._query, table, row):
-            raise InvalidRow("not a row of this table")
         return World(self._query, rows={**self._rows, key: (table, row)})
 
     def __sub__(self, other):
@@ -97,7 +95,7 @@ def fitting(world, role, match):
     """The ascending tuple of the keys of the rows of a side role that fit a match of its ties."""
     _check_world(world)
     query = world.query
-    if not is_name(role) or role not in query.sides:
+    if role not in query.sides:
         raise UnknownName(role)
     ties = query.ties(role)
     if not _is_match(world, ties, match):
