@@ -3,16 +3,21 @@
 import re
 
 from shelfroutes.base.bags import Bag
+from shelfroutes.check.invariants import Reach
 from shelfroutes.errors import InvalidBag, TooMany, UnknownName
 from shelfroutes.plan.plans import Plan
 from shelfroutes.plan.schemes import Draft
 from shelfroutes.query.queries import Query
 from shelfroutes.query.worlds import World
 from shelfroutes.run.engine import Engine
-from tests.shop import flat_plan, shop, shop_query
+from shelfroutes.run.guarded import Guard, GuardedEngine
+from shelfroutes.text.shell import Shell
+from tests.shop import SHOP_TEXT, flat_plan, shop, shop_query
 
 LONGEST = 10 ** 60 - 1
 TOO_LONG = 10 ** 60
+MADE = []
+
 
 def named(value):
     return isinstance(value, str) and re.fullmatch("[a-z]{1,8}", value) is not None
@@ -48,7 +53,8 @@ def everything():
     tuples += [("add", "c"), ("remove", "c"), ("add", "c", "i"), ("update", "so"), ("emit",), (("emit",),),
                ("recount", "nb", "sb"), ("fill", "sco", "sc", "so"), (("clear", "sco"),), ("plain", ("c",)),
                ("counter", "b"), ("cus", (1, 5)), ("add", "cus", (1, 5)), ("remove", 1), ("switch", "wide"),
-               ("load", "sco", 1), (("add", "cus", (1, 5)),), ("counterexample", ()), ("c", "o"), ("b", "c", "o"),
+               ("load", "sco", 1), (("add", "cus", (1, 5)),), ("counterexample", ()), ("invariant", ()), ("local", ()),
+               ("bar", ()), ("course", (), {}), ("switch", "flat", "wide", 0), ((), ()), (("c", "o"), "i"), ("c", "o"), ("b", "c", "o"),
                ("flat", ("out", "out", "out"), (0, 0, 0, 0), (), ((None, ()),))]
     dicts += [{1: ("cus", (1, 5))}, {"sc": ("plain", ("c",))}, {("add", "c"): ((("emit",),),)}, {"c": (("emit",),)}]
     deep = [nested(lambda value: (value,)), nested(lambda value: [value]), nested(lambda value: {1: value})]
@@ -59,9 +65,12 @@ def objects():
     """Objects of the package."""
     scheme = shop()
     draft, engine = Draft(scheme), Engine(scheme)
+    if not MADE:
+        # What takes time to make, and never changes or is never told to.
+        MADE.extend([Reach(scheme), GuardedEngine(scheme), Guard(), Shell(SHOP_TEXT)])
     return [Bag(), Bag({(1, 2): 3}), shop_query(), Query({"a": ("b",)}, c=("core", "a")),
             World(shop_query()), World(shop_query(), rows={1: ("cus", (1, 5))}), Plan(), flat_plan(), scheme, draft,
-            draft.group(), engine, engine.trial(), InvalidBag("wrong"), UnknownName("a"), TooMany(100)]
+            draft.group(), engine, engine.trial(), InvalidBag("wrong"), UnknownName("a"), TooMany(100)] + MADE
 
 
 def those_not(is_valid):

@@ -70,24 +70,32 @@ class Case:
 
     def due(self):
         """1 or 0 for the whole result, and for each listed row of the optional role."""
-        query = self.frame.asked
-        is_due = all([self.states[role] == "in" for role in self.frame.core_roles])
-        for side in self.frame.side_roles:
+        frame = self.frame
+        is_due = all([self.states[role] == "in" for role in frame.core_roles])
+        for side in frame.side_roles:
             is_in = any([row.is_in for row in self.listed[side]])
-            if query.sort_of(side) != "optional" and is_in != (query.sort_of(side) == "some"):
+            if side != frame.optional_role and is_in != (frame.sorts[side] == "some"):
                 is_due = False
-        if query.optional is None:
+        if frame.optional_role is None:
             return int(is_due), ()
-        rows = [is_due and row.is_in for row in self.listed[query.optional]]
+        rows = [is_due and row.is_in for row in self.listed[frame.optional_role]]
         return int(is_due and not any(rows)), tuple([int(is_row_due) for is_row_due in rows])
 
     def change(self):
         """What is emitted less what is retracted: of the whole result, and of each listed row of the optional role."""
         whole = self.emitted.get(None, 0)
-        optional = self.frame.asked.optional
+        optional = self.frame.optional_role
         if optional is None:
             return whole, ()
         return whole, tuple([self.emitted.get(index, 0) for index in range(len(self.listed[optional]))])
+
+    def is_right_behind(self, due):
+        """Whether each result was emitted, less retracted, just as often as what is due has changed since."""
+        whole, rows = due
+        whole_now, rows_now = self.due()
+        # A row that arrives was not due before.
+        rows = rows + (0,) * (len(rows_now) - len(rows))
+        return self.change() == (whole_now - whole, tuple([two - one for one, two in zip(rows, rows_now)]))
 
     def do(self, event):
         """Do a possible event."""
@@ -227,6 +235,13 @@ class Course:
         for index in self._numbers:
             sign = sign_of(query, self._word, self._role, optional=index is not None)
             self._case.emit(index, sign * self._numbers[index])
+
+
+def case_behind(frame, snapshot, event):
+    """The snapshot as it is worked on, behind a possible event."""
+    case = Case(frame, snapshot)
+    case.do(event)
+    return case
 
 
 def capped(many):

@@ -1,11 +1,13 @@
 """What snapshots of a scheme have, and which values have their form."""
 
-from shelfroutes.base.names import is_integer, is_tuple
+from shelfroutes.base.names import is_integer, is_same, is_tuple
+from shelfroutes.errors import InvalidScheme
+from shelfroutes.plan.schemes import Scheme
 from shelfroutes.plan.stores import is_core_store, is_store
 
-_STATES = ("gone", "in", "out")
+STATES = ("gone", "in", "out")
 MAX_COPIES = 2
-_MAX_LISTED = 2
+MAX_LISTED = 2
 
 
 class Frame:
@@ -20,7 +22,10 @@ class Frame:
         self.side_roles = query.sides
         self.core_stores = tuple([name for name in entries if is_core_store(query, entries[name])])
         self.lazy_stores = tuple([name for name in entries if entries[name][0] == "lazy"])
-        # The stores of each side role, and its counter or flag.
+        self.optional_role = query.optional
+        # The sort of each side role, its ties, its stores, and its counter or flag.
+        self.sorts = {side: query.sort_of(side) for side in query.sides}
+        self.ties_of = {side: query.ties(side) for side in query.sides}
         self.stores_of = {side: tuple([name for name in entries if entries[name] == ("plain", (side,))])
                           for side in query.sides}
         self.counter_of = {entries[name][1]: name for name in entries if not is_store(entries[name])}
@@ -29,6 +34,12 @@ class Frame:
         """Whether a side role has a flag, not a counter."""
         return self.entries[self.counter_of[side]][0] == "flag"
 
+    def beginning(self):
+        """The snapshot of the empty engine with the first plan."""
+        listings = tuple([(False if self.has_flag(side) else None, ()) for side in self.side_roles])
+        return (self.obeyed.first, ("out",) * len(self.core_roles), (0,) * len(self.core_stores),
+                (False,) * len(self.lazy_stores), listings)
+
     def is_of_form(self, value):
         """Whether the value has the form of a snapshot."""
         if not is_tuple(value, 5, 5):
@@ -36,7 +47,7 @@ class Frame:
         plan, states, copies, loaded, sides = value
         if plan not in self.obeyed or not is_tuple(states, len(self.core_roles), len(self.core_roles)):
             return False
-        if not all([state in _STATES for state in states]) or not _are_copies(copies, len(self.core_stores)):
+        if not all([state in STATES for state in states]) or not _are_copies(copies, len(self.core_stores)):
             return False
         if not is_tuple(loaded, len(self.lazy_stores), len(self.lazy_stores)):
             return False
@@ -53,7 +64,7 @@ class Frame:
         flag, rows = value
         if not (isinstance(flag, bool) if self.has_flag(side) else flag is None):
             return False
-        if not is_tuple(rows, 0, _MAX_LISTED) or not all([self._is_listed(side, row) for row in rows]):
+        if not is_tuple(rows, 0, MAX_LISTED) or not all([self._is_listed(side, row) for row in rows]):
             return False
         return rows == tuple(sorted(rows))
 
@@ -67,7 +78,6 @@ class Frame:
             return False
         return is_worth_listing(value)
 
-
     def possible_events(self, snapshot):
         """The ascending tuple of the events that are possible at a snapshot."""
         plan, states, _, are_open, listings = snapshot
@@ -75,7 +85,7 @@ class Frame:
         events.extend([("remove", role) for role, state in zip(self.core_roles, states)
                        if state == "in" and not self._is_lasting(role)])
         for side, (_, rows) in zip(self.side_roles, listings):
-            if len(rows) < _MAX_LISTED:
+            if len(rows) < MAX_LISTED:
                 events.append(("add", side))
             if not self._is_lasting(side):
                 # Of equal rows just one can be meant.
@@ -84,8 +94,19 @@ class Frame:
         events.extend([("evict" if is_open else "load", name) for name, is_open in zip(self.lazy_stores, are_open)])
         return tuple(sorted(events))
 
+    def is_possible(self, snapshot, value):
+        """Whether the value is one of the events that are possible at a snapshot."""
+        return any([is_same(value, possible) for possible in self.possible_events(snapshot)])
+
     def _is_lasting(self, role):
         return self.asked.table_of(role) in self.obeyed.lasting
+
+
+def frame_of(scheme):
+    """The frame of a value that has to be a scheme."""
+    if not isinstance(scheme, Scheme):
+        raise InvalidScheme("not a scheme")
+    return Frame(scheme)
 
 
 def is_worth_listing(row):

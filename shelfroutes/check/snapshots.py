@@ -1,24 +1,20 @@
 """Snapshots of one full match: what an engine holds of it, and what events do to it."""
 
-from shelfroutes.base.names import is_key, is_same, is_tuple
-from shelfroutes.check.cases import Case, capped
-from shelfroutes.check.frames import Frame, is_worth_listing
-from shelfroutes.errors import InvalidEvent, InvalidOperation, InvalidScheme, InvalidSnapshot
-from shelfroutes.plan.schemes import Scheme
+from shelfroutes.base.names import is_key, is_tuple
+from shelfroutes.check.cases import Case, capped, case_behind
+from shelfroutes.check.frames import Frame, frame_of, is_worth_listing
+from shelfroutes.errors import InvalidEvent, InvalidOperation, InvalidSnapshot
 from shelfroutes.run.engine import Engine
 
 
 def first_snapshot(scheme):
     """The snapshot of the empty engine with the first plan."""
-    frame = _frame_of(scheme)
-    listings = tuple([(False if frame.has_flag(side) else None, ()) for side in frame.side_roles])
-    return (scheme.first, ("out",) * len(frame.core_roles), (0,) * len(frame.core_stores),
-            (False,) * len(frame.lazy_stores), listings)
+    return frame_of(scheme).beginning()
 
 
 def is_snapshot(scheme, value):
     """Whether the value has the form of a snapshot, reached or not."""
-    return _frame_of(scheme).is_of_form(value)
+    return frame_of(scheme).is_of_form(value)
 
 
 def events_at(scheme, snapshot):
@@ -44,11 +40,7 @@ def output_change(scheme, snapshot, event):
 def is_right(scheme, snapshot, event):
     """Whether each result is emitted, less retracted, just as often as what is due changes."""
     case = _case_after(scheme, snapshot, event)
-    whole, rows = Case(case.frame, snapshot).due()
-    whole_behind, rows_behind = case.due()
-    # A row that arrives was not due before.
-    rows = rows + (0,) * (len(rows_behind) - len(rows))
-    return case.change() == (whole_behind - whole, tuple([two - one for one, two in zip(rows, rows_behind)]))
+    return case.is_right_behind(Case(case.frame, snapshot).due())
 
 
 def snapshot_of(engine, rows, further):
@@ -68,14 +60,8 @@ def snapshot_of(engine, rows, further):
     return engine.plan, states, copies, are_open, listings
 
 
-def _frame_of(scheme):
-    if not isinstance(scheme, Scheme):
-        raise InvalidScheme("not a scheme")
-    return Frame(scheme)
-
-
 def _frame_at(scheme, snapshot):
-    frame = _frame_of(scheme)
+    frame = frame_of(scheme)
     if not frame.is_of_form(snapshot):
         raise InvalidSnapshot("not a snapshot of this scheme")
     return frame
@@ -84,11 +70,9 @@ def _frame_at(scheme, snapshot):
 def _case_after(scheme, snapshot, event):
     """The snapshot as it is worked on, behind an event."""
     frame = _frame_at(scheme, snapshot)
-    if not any([is_same(event, possible) for possible in frame.possible_events(snapshot)]):
+    if not frame.is_possible(snapshot, event):
         raise InvalidEvent("not possible at this snapshot")
-    case = Case(frame, snapshot)
-    case.do(event)
-    return case
+    return case_behind(frame, snapshot, event)
 
 
 def _is_full_match(query, placed, value):
@@ -137,7 +121,7 @@ def _is_open(engine, rows, name):
 def _listing(engine, frame, rows, side, keys):
     """What a snapshot tells of a side role, with the rows that have these keys."""
     counter = frame.counter_of[side]
-    counted = engine.counted(counter).get(_part(rows, frame.asked.ties(side)), ())
+    counted = engine.counted(counter).get(_part(rows, frame.ties_of[side]), ())
     has_flag = frame.has_flag(side)
     listed = []
     for key in keys:

@@ -249,11 +249,16 @@ class Engine:
         with self.trial():
             return call(self)
 
+    def _follow(self, other):
+        """Become an independent copy of another engine."""
+        self._obeyed = other._obeyed
+        self._now = other._now
+        self._undone = other._undone
+
     def twin(self):
         """An independent copy."""
         made = Engine(self._obeyed)
-        made._now = self._now
-        made._undone = self._undone
+        made._follow(self)
         return made
 
 

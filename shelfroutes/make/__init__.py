@@ -1,0 +1,1 @@
+"""Schemes that are made: from trees, with cheap transitions, and without steps that do nothing."""
