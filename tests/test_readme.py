@@ -22,7 +22,7 @@ def told_value(line):
 class Readme(unittest.TestCase):
     def test_code(self):
         blocks = re.findall("```python\n(.*?)```", TEXT, re.S)
-        self.assertEqual(len(blocks), 3)
+        self.assertEqual(len(blocks), 6)
         names, looked_at = {}, 0
         for block in blocks:
             for node in ast.parse(block).body:
@@ -35,7 +35,7 @@ class Readme(unittest.TestCase):
                         looked_at += 1
                 else:
                     exec(code, names)
-        self.assertGreater(looked_at, 10)
+        self.assertGreater(looked_at, 28)
 
 
 if __name__ == "__main__":

@@ -1,7 +1,6 @@
 """Snapshots at work: what events do to one full match and its further rows."""
 
 from shelfroutes.check.frames import MAX_COPIES, is_worth_listing
-from shelfroutes.plan.steps import sign_of
 
 
 class Further:
@@ -135,7 +134,7 @@ class Case:
 
     def _send(self, word, role, index):
         """Send a row through its pipelines."""
-        for pipeline in self.frame.obeyed[self.at_plan][word, role]:
+        for pipeline in self.frame.routes(self.at_plan, word, role):
             course = Course(self, word, role, index)
             for step in pipeline:
                 course.do_step(step)
@@ -231,9 +230,8 @@ class Course:
         self._numbers = {None: number if case.has_counted(side) != was_counted else 0}
 
     def _emit(self):
-        query = self._case.frame.asked
         for index in self._numbers:
-            sign = sign_of(query, self._word, self._role, optional=index is not None)
+            sign = self._case.frame.sign(self._word, self._role, index is not None)
             self._case.emit(index, sign * self._numbers[index])
 
 

@@ -3,6 +3,7 @@
 from shelfroutes.base.names import is_integer, is_same, is_tuple
 from shelfroutes.errors import InvalidScheme
 from shelfroutes.plan.schemes import Scheme
+from shelfroutes.plan.steps import WORDS, sign_of
 from shelfroutes.plan.stores import is_core_store, is_store
 
 STATES = ("gone", "in", "out")
@@ -29,10 +30,20 @@ class Frame:
         self.stores_of = {side: tuple([name for name in entries if entries[name] == ("plain", (side,))])
                           for side in query.sides}
         self.counter_of = {entries[name][1]: name for name in entries if not is_store(entries[name])}
+        self._routes = _routes_of(scheme)
+        self._signs = _signs_of(query)
 
     def has_flag(self, side):
         """Whether a side role has a flag, not a counter."""
         return self.entries[self.counter_of[side]][0] == "flag"
+
+    def routes(self, plan, word, role):
+        """The pipelines of a pair in a plan."""
+        return self._routes.get((plan, word, role), ())
+
+    def sign(self, word, role, has_optional):
+        """The sign of what a pipeline of a pair emits, with the optional role in its matches or without it."""
+        return self._signs[word, role, has_optional]
 
     def beginning(self):
         """The snapshot of the empty engine with the first plan."""
@@ -107,6 +118,19 @@ def frame_of(scheme):
     if not isinstance(scheme, Scheme):
         raise InvalidScheme("not a scheme")
     return Frame(scheme)
+
+
+def _routes_of(scheme):
+    """The pipelines of all plans, by the name of the plan and the pair."""
+    plans = scheme.plans
+    return {(name, word, role): plans[name][word, role] for name in plans for word, role in plans[name]}
+
+
+def _signs_of(query):
+    """The signs of all pairs, with the optional role, if there is one, and without it."""
+    choices = (False,) if query.optional is None else (False, True)
+    return {(word, role, has_optional): sign_of(query, word, role, optional=has_optional)
+            for word in WORDS for role in query.roles for has_optional in choices}
 
 
 def is_worth_listing(row):
