@@ -17,6 +17,7 @@ from tests.draws import SIDES, draw_history, draw_query, draw_scheme, rng_of
 from tests.dressed import draw_dressed
 from tests.more_shops import crowded, lazy_one, split
 from tests.shop import CHAIN_TEXT, lost, shop
+from tests.test_histories import told_wrong
 from tests.values import LONGEST, TOO_LONG, everything, those_not, whole
 
 
@@ -116,6 +117,7 @@ class Reached(unittest.TestCase):
             self.assertIn((self.follow(scheme, path[:-1])[0], path[-1]), wrong)
             self.assertIsNone(reach.invariant)
             self.assertIs(is_counterexample(scheme, value), True)
+            self.assertEqual(told_wrong(scheme, value[1]), len(value[1]) - 1)
             self.assertLessEqual(len(value[1]), least)
             self.assertIs(is_invariant(scheme, ("invariant", reach.snapshots)), False)
         else:
@@ -253,7 +255,7 @@ class Judged(unittest.TestCase):
             for judged in (value, ("invariant", value), (value, good[1]), good + (value,), ("invariant", (value,)),
                            ("invariant", good[1] + (value,))):
                 self.assertIs(is_invariant(chain(), judged), False, judged)
-        for judged in (list(good), ("invariant", list(good[1])), ("invariant", good[1][::-1]), ("invariant", ()),
+        for judged in (list(good), good[:1], good[1:], ("invariant", list(good[1])), ("invariant", good[1][::-1]), ("invariant", ()),
                        ("invariant", good[1] + good[1][-1:]), ("invariant", good[1][:1] + good[1])):
             self.assertIs(is_invariant(chain(), judged), False)
         for at, snapshot in enumerate(good[1]):

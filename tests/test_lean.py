@@ -205,6 +205,9 @@ class Lean(unittest.TestCase):
         spoilt = [(gone, reasons[:at] + reasons[at + 1:]), (gone, reasons[:at] + ((place, other),) + reasons[at + 1:]),
                   (gone, reasons + reasons[-1:]), (gone + (place,), reasons), (gone, list(reasons)), (list(gone), reasons),
                   [gone, reasons], (gone, reasons, ()), (gone, ())]
+        for pair in ((place + (0,), reason), (place[:-1] + (bool(place[-1]),), reason), (place,), (place, reason, None),
+                     [place, reason], (list(place), reason)):
+            spoilt.append((gone, reasons[:at] + (pair,) + reasons[at + 1:]))
         if gone:
             spoilt += [(gone[:-1], reasons), (gone[1:], reasons)]
         if len(reasons) > 1:

@@ -14,6 +14,7 @@ from shelfroutes.check.local import (certificate_of, fault_of, is_certificate, i
 from shelfroutes.check.snapshots import events_at, is_right, is_snapshot, snapshot_after
 from shelfroutes.check.uses import is_closed, used
 from shelfroutes.errors import InvalidOperation, InvalidScheme, InvalidSnapshot, TooMany
+from shelfroutes.plan.plans import Plan
 from shelfroutes.plan.schemes import Scheme
 from shelfroutes.text.texts import read_scheme
 from tests.draws import SIDES, draw_query, draw_scheme, rng_of, subset
@@ -202,6 +203,17 @@ class Snapshots(unittest.TestCase):
         self.assertEqual(len(list(meant_snapshots(shop(), used(shop())))), 2 * 27 * 3)
         self.assertEqual(len(list(meant_snapshots(lazy_one(), used(lazy_one())))), 2 * 81 * 2)
 
+    def test_order(self):
+        """Copies come before loaded keys, and depend on them."""
+        query = shop().query.without("b")
+        stores = {"la": ("lazy", ("c", "i"), "c", "code", "sc", "si"), "lb": ("lazy", ("c", "o"), "c", "code", "sc", "so"),
+                  "sc": ("plain", ("c",)), "si": ("plain", ("i",)), "so": ("plain", ("o",))}
+        scheme = Scheme(query, stores=stores, plans={"p": Plan()}, first="p")
+        uses = {"p": ("la", "lb", "sc", "si", "so")}
+        found = list(meant_snapshots(scheme, uses))
+        self.assertEqual(found, sorted(told_meant_snapshots(scheme, uses)))
+        self.assertEqual(len(found), 27 * 4)
+
     def test_limit(self):
         with mock.patch.object(local_module, "MAX_SNAPSHOTS", 162):
             self.assertEqual(len(list(meant_snapshots(shop(), used(shop())))), 162)
@@ -331,6 +343,17 @@ class Certificates(unittest.TestCase):
         self.assertIs(is_right_scheme(split()), True)
         self.assertIs(is_certificate(split(), Reach(split()).invariant), True)
 
+    def test_uses_that_are_not_closed(self):
+        """A store that is joined but never updated: without it among the uses no event is wrong."""
+        text = CHAIN_TEXT.replace("store so o", "store sd c\nstore so o").replace("remove c:", "add o: join sd, emit\nremove c:")
+        scheme = read_scheme(text)
+        without = {"flat": ("sc", "so")}
+        self.assertEqual((told_faults(scheme, without), used(scheme)), ([], {"flat": ("sc", "sd", "so")}))
+        for names in (("sc", "so"), ("sc", "sd", "so")):
+            self.assertIs(is_local(scheme, ("local", (("flat", names),))), False)
+        self.assertIsNone(local_of(scheme))
+        self.assertEqual(certificate_of(scheme)[0], "invariant")
+
     def test_lazy_stores_over_what_is_filled(self):
         for text, told in (("clear lcio, fill sco sc so", True), ("fill sco sc so, clear lcio", True),
                            ("fill sco sc so", False), ("clear lcio", False), ("", False)):
@@ -349,13 +372,17 @@ class Certificates(unittest.TestCase):
                 for call in (is_local, is_certificate):
                     is_good = repr(judged) == repr(good)
                     self.assertIs(call(scheme, judged), is_good, judged)
-        for judged in (list(good), ("local", list(good[1])), ("local", (["flat", ("sc", "so")],)), ("local", {"flat": ("sc", "so")}),
+        for judged in (list(good), good[:1], good[1:], ("local", list(good[1])), ("local", (["flat", ("sc", "so")],)), ("local", {"flat": ("sc", "so")}),
                        ("local", (("flat", ["sc", "so"]),)), ("local", (("flat", ("so", "sc")),)), ("local", ())):
             self.assertIs(is_local(scheme, judged), False)
         self.assertEqual([is_local(scheme, reach), is_certificate(scheme, reach)], [False, True])
         pairs = local_of(shop())[1]
         for judged, told in (((pairs[1], pairs[0]), False), (pairs + pairs[1:], False), (pairs[:1], False),
-                             ((("flat", WIDE), ("wide", WIDE)), False), ((("flat", FLAT), ("wide", FLAT)), False)):
+                             ((("flat", WIDE), ("wide", WIDE)), False), ((("flat", FLAT), ("wide", FLAT)), False),
+                             ((pairs[0], ("wide", WIDE[::-1])), False), ((pairs[0], ("wide", list(WIDE))), False),
+                             ((("flat", FLAT[::-1]), pairs[1]), False), ((pairs[0], ("wide",)), False), ((pairs[0], 5), False),
+                             ((pairs[0], ("late", WIDE)), False), ((pairs[0], ("wide", WIDE + ("zz",))), False),
+                             ((pairs[0], pairs[1] + ((),)), False), ((5, pairs[1]), False), (pairs, True)):
             self.assertIs(is_local(shop(), ("local", judged)), told)
 
     def test_larger_uses(self):

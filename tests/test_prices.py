@@ -12,10 +12,11 @@ from shelfroutes.plan.schemes import Scheme
 from shelfroutes.query.queries import Query
 from shelfroutes.query.worlds import World
 from shelfroutes.run.engine import Engine
+from shelfroutes.text.texts import read_scheme
 from tests import plain
 from tests.draws import draw_query, draw_row, draw_rows, draw_stores, rng_of, subset
 from tests.more_shops import lazy_one
-from tests.shop import shop, shop_query, steps
+from tests.shop import CHAIN_TEXT, shop, shop_query, steps
 from tests.values import LONGEST, TOO_LONG, everything, those_not, whole
 
 DAY = World(shop_query(), rows={1: ("cus", (1, 5)), 2: ("ord", (1, 7)), 3: ("item", (7,)), 4: ("ord", (1, 7))})
@@ -23,6 +24,10 @@ SIZES = {("c", "o"): 5}
 COURSE = (("fill", "sco", "sc", "so"),)
 TABLE = {("sc", "so"): 5, ("sc", "sco", "so"): 0}
 KEPT = {}
+
+
+def chain():
+    return read_scheme(CHAIN_TEXT)
 
 
 def core_stores(scheme):
@@ -194,6 +199,13 @@ class Repairs(unittest.TestCase):
                 World(Query({"a": ("b",)}, c=("core", "a")))]:
             with self.assertRaises(InvalidOperation):
                 sizes_in(shop(), value)
+        query = shop_query()
+        other = World(Query.of(query.tables, query.tests[:2], query.roles))
+        for scheme in (shop(), chain()):
+            for value in those_not(lambda value: isinstance(value, World)) + [other]:
+                with self.assertRaises(InvalidOperation):
+                    sizes_in(scheme, value)
+        self.assertEqual(sizes_in(chain(), World(chain().query)), {})
         for value in those_not(lambda value: value == ()) + [("sb",), ("nb",), ("so", "sc"), ("sc", "sc"), ["sc"], ("zz",)]:
             with self.assertRaises(InvalidOperation):
                 possible_repairs(shop(), value)
@@ -295,7 +307,8 @@ class Courses(unittest.TestCase):
                             ({**TABLE, ("sc", "si", "so"): 5, ("sc", "sco", "si", "so"): 1}, False),
                             ({("sc", "so"): 4, ("sc", "sco", "so"): 0}, False), ({("sc", "so"): 5}, False),
                             ({("sc", "so"): 5, ("sc", "sco", "so"): 1}, False),
-                            ({("sc", "sco", "so"): 0}, False)):
+                            ({("sc", "sco", "so"): 0}, False), ({**TABLE, ("si",): -1}, False), ({**TABLE, (): 0}, True),
+                            ({**TABLE, ("si",): TOO_LONG}, False), ({**TABLE, ("sc", "so"): 5, ("sco",): 1}, False)):
             self.assertIs(is_price_paper(*task, ("course", COURSE, table)), told, table)
 
     def test_values(self):
@@ -308,7 +321,7 @@ class Courses(unittest.TestCase):
                 self.assertIs(is_price_paper(*task, judged), repr(judged) == repr(good), judged)
             if isinstance(value, (str, int, bool)) or value is None:
                 self.assertIs(is_price_paper(*task, ("course", COURSE, {**TABLE, value: 0})), False)
-        for judged in (list(good), ("course", list(COURSE), TABLE), ("course", COURSE, tuple(TABLE.items())),
+        for judged in (list(good), good[:2], ("course", list(COURSE), TABLE), ("course", COURSE, tuple(TABLE.items())),
                        ("course", (list(COURSE[0]),), TABLE), ("course", COURSE, {**TABLE, ("so", "sc"): 5}),
                        ("course", COURSE, {**TABLE, ("sc", "sco", "so"): False}), ("course", COURSE, {**TABLE, ("sb",): 0})):
             self.assertIs(is_price_paper(*task, judged), False, judged)
@@ -316,7 +329,8 @@ class Courses(unittest.TestCase):
         for judged, told in ((("bar", ("so",)), True), (("bar", ("si", "so")), True), (("bar", ("si",)), False),
                              (("bar", ("sc", "so")), False), (("bar", ("sco", "so")), False), (("bar", ["so"]), False),
                              (["bar", ("so",)], False), (("bar", ("so", "si")), False), (("bar", ("sb", "so")), False),
-                             (("bar",), False), (("bar", ("so",), {}), False), (("course", (), {}), False)):
+                             (("bar",), False), (("bar", ("so",), {}), False), (("course", (), {}), False),
+                             (("", ("so",)), False), ((None, ("so",)), False), (("course", ("so",)), False)):
             self.assertIs(is_price_paper(*bars, judged), told, judged)
 
     def test_many_positions(self):

@@ -1,8 +1,7 @@
 """What snapshots of a scheme have, and which values have their form."""
 
 from shelfroutes.base.names import is_integer, is_same, is_tuple
-from shelfroutes.errors import InvalidScheme
-from shelfroutes.plan.schemes import Scheme
+from shelfroutes.plan.schemes import check_scheme
 from shelfroutes.plan.steps import WORDS, sign_of
 from shelfroutes.plan.stores import is_core_store, is_store
 
@@ -115,8 +114,7 @@ class Frame:
 
 def frame_of(scheme):
     """The frame of a value that has to be a scheme."""
-    if not isinstance(scheme, Scheme):
-        raise InvalidScheme("not a scheme")
+    check_scheme(scheme)
     return Frame(scheme)
 
 

@@ -1,9 +1,9 @@
 """Histories of engines: where they go wrong, and short ones that do."""
 
 from shelfroutes.base.names import is_many, is_tuple
-from shelfroutes.errors import (InvalidEvent, InvalidNumber, InvalidOperation, InvalidRow, InvalidScheme, Stopped,
-                                TooMany, UnknownKey, UnknownName)
-from shelfroutes.plan.schemes import Scheme
+from shelfroutes.errors import (InvalidEvent, InvalidNumber, InvalidOperation, InvalidRow, Stopped, TooMany, UnknownKey,
+                                UnknownName)
+from shelfroutes.plan.schemes import check_scheme
 from shelfroutes.run.engine import Engine
 from shelfroutes.run.events import is_event_form
 
@@ -25,7 +25,7 @@ def without_event(events, index):
 
 def run(scheme, events):
     """A new engine behind these events."""
-    _check_scheme(scheme)
+    check_scheme(scheme)
     _check_events(events)
     engine = Engine(scheme)
     for index in range(len(events)):
@@ -35,7 +35,7 @@ def run(scheme, events):
 
 def outputs(scheme, events):
     """Yield the output of a new engine behind each of these events."""
-    _check_scheme(scheme)
+    check_scheme(scheme)
     _check_events(events)
     engine = Engine(scheme)
     for index in range(len(events)):
@@ -45,7 +45,7 @@ def outputs(scheme, events):
 
 def first_wrong(scheme, events):
     """The index of the first event after which the history is wrong, or None."""
-    _check_scheme(scheme)
+    check_scheme(scheme)
     _check_events(events)
     engine = Engine(scheme)
     for index in range(len(events)):
@@ -57,7 +57,7 @@ def first_wrong(scheme, events):
 
 def is_history(scheme, value):
     """Whether the value is a history: events that a new engine accepts, one after another."""
-    _check_scheme(scheme)
+    check_scheme(scheme)
     if not _are_events(value):
         return False
     try:
@@ -69,7 +69,7 @@ def is_history(scheme, value):
 
 def is_counterexample(scheme, value):
     """Whether the value is a history that is wrong after its last event, and right after each earlier one."""
-    _check_scheme(scheme)
+    check_scheme(scheme)
     if not is_tuple(value, 2, 2) or value[0] != "counterexample" or not _are_events(value[1]):
         return False
     return _wrong_index(scheme, value[1]) == len(value[1]) - 1
@@ -124,11 +124,6 @@ def _wrong_index(scheme, events):
         return first_wrong(scheme, events)
     except (Stopped, TooMany):
         return None
-
-
-def _check_scheme(value):
-    if not isinstance(value, Scheme):
-        raise InvalidScheme("not a scheme")
 
 
 def _check_events(value):

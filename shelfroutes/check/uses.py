@@ -4,27 +4,27 @@ That an item is needed at a plan is told by links, as they stand in trails: pair
 """
 
 from shelfroutes.base.names import is_ascending, is_name, is_same
-from shelfroutes.errors import InvalidOperation, InvalidScheme, UnknownName
-from shelfroutes.plan.schemes import MAX_STORES, Scheme
+from shelfroutes.errors import InvalidOperation, UnknownName
+from shelfroutes.plan.schemes import MAX_STORES, check_scheme
 
 _ASKING = ("count", "join", "none", "some")
 
 
 def used(scheme):
     """The least closed uses."""
-    _check_scheme(scheme)
+    check_scheme(scheme)
     return least_uses(scheme)
 
 
 def is_closed(scheme, value):
     """Whether the value is closed uses."""
-    _check_scheme(scheme)
+    check_scheme(scheme)
     return are_uses(scheme, value) and are_closed(scheme, value)
 
 
 def needed_before(scheme, plan, other, items):
     """What the transition from one plan to the other needs if these items are chosen at its end."""
-    _check_scheme(scheme)
+    check_scheme(scheme)
     for name in (plan, other):
         if name not in scheme:
             raise UnknownName(name)
@@ -195,13 +195,8 @@ def _with_sources(entries, items):
     return found
 
 
-def _check_scheme(value):
-    if not isinstance(value, Scheme):
-        raise InvalidScheme("not a scheme")
-
-
 def _check_place(scheme, plan, item):
-    _check_scheme(scheme)
+    check_scheme(scheme)
     if not is_name(plan) or plan not in scheme.reached:
         raise UnknownName(plan)
     if not is_name(item) or item not in scheme.stores:

@@ -4,14 +4,14 @@ from shelfroutes.base.names import is_same, is_tuple
 from shelfroutes.check.histories import is_counterexample
 from shelfroutes.check.invariants import counterexample_of
 from shelfroutes.check.local import is_right_scheme, local_of
-from shelfroutes.errors import InvalidOperation, InvalidPlan, InvalidScheme
-from shelfroutes.plan.schemes import Scheme
+from shelfroutes.errors import InvalidOperation, InvalidPlan
+from shelfroutes.plan.schemes import check_scheme
 from shelfroutes.run.guarded import Guard
 
 
 def places(scheme):
     """The ascending tuple of the places of all steps."""
-    _check_scheme(scheme)
+    check_scheme(scheme)
     return _all_places(scheme)
 
 
@@ -162,12 +162,7 @@ def _is_reason(scheme, place, value):
     return value[1] is None if rest is None else is_counterexample(rest, value[1])
 
 
-def _check_scheme(value):
-    if not isinstance(value, Scheme):
-        raise InvalidScheme("not a scheme")
-
-
 def _check_place(scheme, value):
-    _check_scheme(scheme)
+    check_scheme(scheme)
     if not _is_place(scheme, value):
         raise InvalidOperation("not a place of a step")

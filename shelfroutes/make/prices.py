@@ -5,8 +5,8 @@ Stores are sound or not. A position is the ascending tuple of the sound ones.
 """
 
 from shelfroutes.base.names import is_ascending, is_integer, is_same, is_tuple
-from shelfroutes.errors import InvalidOperation, InvalidScheme
-from shelfroutes.plan.schemes import MAX_STORES, Scheme
+from shelfroutes.errors import InvalidOperation
+from shelfroutes.plan.schemes import MAX_STORES, check_scheme
 from shelfroutes.plan.stores import is_core_store, make_up
 from shelfroutes.query.worlds import World, matches
 
@@ -15,13 +15,13 @@ _MAX_SIZE = 10 ** 50
 
 def repairs(scheme):
     """The ascending tuple of all repairs."""
-    _check_scheme(scheme)
+    check_scheme(scheme)
     return _all_repairs(scheme)
 
 
 def possible_repairs(scheme, sound):
     """The ascending tuple of the repairs that are possible if just these stores are sound."""
-    _check_scheme(scheme)
+    check_scheme(scheme)
     _check_position(scheme, sound)
     return Ground(scheme, {}).possible(sound)
 
@@ -36,7 +36,7 @@ def price_of(scheme, sizes, course):
 
 def sizes_in(scheme, world):
     """How many matches there are in a world, for the roles of each plain store of two or more core roles."""
-    _check_scheme(scheme)
+    check_scheme(scheme)
     if not isinstance(world, World) or world.query != scheme.query:
         raise InvalidOperation("not a world of an equal query")
     return {roles: len(matches(world, roles)) for roles in _sized_roles(scheme)}
@@ -234,14 +234,9 @@ def _is_size(value):
     return is_integer(value) and 0 <= value <= _MAX_SIZE
 
 
-def _check_scheme(value):
-    if not isinstance(value, Scheme):
-        raise InvalidScheme("not a scheme")
-
-
 def _check_sizes(scheme, sizes):
     """Check a scheme, and the sizes for it."""
-    _check_scheme(scheme)
+    check_scheme(scheme)
     told = _sized_roles(scheme)
     if not isinstance(sizes, dict) or len(sizes) != len(told) or not all([roles in sizes for roles in told]):
         raise InvalidOperation("not a dict from the roles of the plain stores of several roles")

@@ -135,8 +135,7 @@ class Draft:
     """A scheme that can be changed."""
 
     def __init__(self, scheme):
-        if not isinstance(scheme, Scheme):
-            raise InvalidScheme("not a scheme")
+        check_scheme(scheme)
         self._made = scheme
         self._last = None
 
@@ -233,6 +232,12 @@ class Group:
             self._draft._last = self._earlier
         else:
             self._draft._last = self._as_one
+
+
+def check_scheme(value):
+    """Raise an error if the value is no scheme."""
+    if not isinstance(value, Scheme):
+        raise InvalidScheme("not a scheme")
 
 
 def _number_of(change):

@@ -2,9 +2,9 @@
 
 from shelfroutes.base.bags import Bag
 from shelfroutes.base.names import is_integer, is_key, is_many, is_name, is_tuple
-from shelfroutes.errors import (InvalidEvent, InvalidNumber, InvalidOperation, InvalidRow, InvalidScheme, NothingToUndo,
-                                TooMany, UnknownKey, UnknownName)
-from shelfroutes.plan.schemes import Scheme
+from shelfroutes.errors import (InvalidEvent, InvalidNumber, InvalidOperation, InvalidRow, NothingToUndo, TooMany,
+                                UnknownKey, UnknownName)
+from shelfroutes.plan.schemes import check_scheme
 from shelfroutes.query.queries import is_row_of, is_table
 from shelfroutes.query.worlds import World, results
 from shelfroutes.run.events import is_event_form
@@ -23,8 +23,7 @@ class Engine:
     """
 
     def __init__(self, scheme):
-        if not isinstance(scheme, Scheme):
-            raise InvalidScheme("not a scheme")
+        check_scheme(scheme)
         self._obeyed = scheme
         self._now = Moment(None, None, State(scheme.query, scheme.stores, scheme.first))
         # The moments that were undone, the earliest one last.

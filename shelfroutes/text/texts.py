@@ -1,8 +1,8 @@
 """Queries, plans and schemes as texts."""
 
-from shelfroutes.errors import InvalidPlan, InvalidQuery, InvalidScheme, ParseError
+from shelfroutes.errors import InvalidPlan, InvalidQuery, ParseError
 from shelfroutes.plan.plans import Plan
-from shelfroutes.plan.schemes import Scheme
+from shelfroutes.plan.schemes import Scheme, check_scheme
 from shelfroutes.query.queries import Query
 from shelfroutes.text.lines import PLAN_KINDS, QUERY_KINDS, SCHEME_KINDS, records_of
 
@@ -23,8 +23,7 @@ def write_plan(plan):
 
 def write_scheme(scheme):
     """The text of a scheme."""
-    if not isinstance(scheme, Scheme):
-        raise InvalidScheme("not a scheme")
+    check_scheme(scheme)
     stores, plans, transitions = scheme.stores, scheme.plans, scheme.transitions
     lines = _query_lines(scheme.query) + [f"lasting {table}" for table in scheme.lasting]
     lines.extend([_store_line(name, stores[name]) for name in stores])
