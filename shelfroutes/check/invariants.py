@@ -1,9 +1,9 @@
 """Invariants: the snapshots that right events lead to, and histories that follow paths of such events."""
 
 from shelfroutes.base.names import ascends, is_many, is_tuple
-from shelfroutes.check.cases import Case, case_behind
 from shelfroutes.check.frames import frame_of
 from shelfroutes.check.histories import MAX_EVENTS, first_wrong
+from shelfroutes.check.outcomes import Outcomes
 from shelfroutes.check.walks import Walk
 from shelfroutes.errors import InvalidEvent, InvalidNumber, InvalidSnapshot, TooMany
 
@@ -15,14 +15,10 @@ class Reach:
 
     def __init__(self, scheme):
         self._frame = frame_of(scheme)
-        search = ReachSearch(self._frame)
-        # For each snapshot the one before it and the event between them, on a way with as few events as possible.
-        self._ways = search.ways
-        self._layers = [tuple(sorted(layer)) for layer in search.layers]
-        self._in_order = tuple(sorted(list(search.ways)))
-        self._wrong_pairs = tuple(sorted(search.wrong_pairs))
-        # Wrong events were found at the nearest snapshots first.
-        self._nearest = search.wrong_pairs[0] if search.wrong_pairs != [] else None
+        self._search = ReachSearch(self._frame.beginning(), Outcomes(self._frame))
+        self._layers = [tuple(sorted(layer)) for layer in self._search.layers]
+        self._in_order = tuple(sorted(list(self._search.ways)))
+        self._wrong_pairs = tuple(sorted(self._search.wrong_pairs))
 
     @property
     def snapshots(self):
@@ -37,24 +33,19 @@ class Reach:
     @property
     def invariant(self):
         """The invariant of just these snapshots, or None."""
-        return ("invariant", self._in_order) if self._nearest is None else None
+        return ("invariant", self._in_order) if self._wrong_pairs == () else None
 
     def __len__(self):
         return len(self._in_order)
 
     def __contains__(self, x):
         # Only what has the form of a snapshot is looked up: other values can equal one, or be no keys.
-        return self._frame.is_of_form(x) and x in self._ways
+        return self._frame.is_of_form(x) and x in self._search.ways
 
     def __getitem__(self, at):
         if at not in self:
             raise InvalidSnapshot("not reached")
-        path = []
-        snapshot = at
-        while self._ways[snapshot] is not None:
-            snapshot, event = self._ways[snapshot]
-            path.append(event)
-        return tuple(path[::-1])
+        return self._search.path_to(at)
 
     def __iter__(self):
         raise TypeError("a reach is not iterated over")
@@ -67,20 +58,18 @@ class Reach:
 
     def shortest(self):
         """A path with as few events as possible whose last event is wrong, or None."""
-        if self._nearest is None:
-            return None
-        snapshot, event = self._nearest
-        return self[snapshot] + (event,)
+        return self._search.shortest_path()
 
 
 class ReachSearch:
     """A search for all snapshots that right events lead to, one event further at a time."""
 
-    def __init__(self, frame):
-        self._frame = frame
-        first = frame.beginning()
+    def __init__(self, first, outcomes):
+        self._outcomes = outcomes
+        # For each snapshot the one before it and the event between them, on a way with as few events as possible.
         self.ways = {first: None}
         self.layers = []
+        # Pairs at snapshots that are nearer stand ahead of others.
         self.wrong_pairs = []
         layer = [first]
         while layer != []:
@@ -93,19 +82,31 @@ class ReachSearch:
     def _new_ones_behind(self, snapshot):
         """The snapshots that right events lead to from this one, as far as they were not reached before."""
         found = []
-        due = Case(self._frame, snapshot).due()
-        for event in self._frame.possible_events(snapshot):
-            case = case_behind(self._frame, snapshot, event)
-            if not case.is_right_behind(due):
+        for event, is_right, behind in self._outcomes.outcomes_at(snapshot):
+            if not is_right:
                 self.wrong_pairs.append((snapshot, event))
-                continue
-            behind = case.told()
-            if behind not in self.ways:
+            elif behind not in self.ways:
                 self.ways[behind] = (snapshot, event)
                 found.append(behind)
                 if len(self.ways) > MAX_SNAPSHOTS:
                     raise TooMany(MAX_SNAPSHOTS)
         return found
+
+    def path_to(self, snapshot):
+        """A path with as few events as possible that leads to a reached snapshot."""
+        path = []
+        place = snapshot
+        while self.ways[place] is not None:
+            place, event = self.ways[place]
+            path.append(event)
+        return tuple(path[::-1])
+
+    def shortest_path(self):
+        """A path with as few events as possible whose last event is wrong, or None."""
+        if self.wrong_pairs == []:
+            return None
+        snapshot, event = self.wrong_pairs[0]
+        return self.path_to(snapshot) + (event,)
 
 
 def is_invariant(scheme, value):
@@ -141,12 +142,11 @@ def history_of(scheme, path):
 
 def counterexample_of(scheme):
     """A counterexample with at most as many events as a shortest path to a wrong event, or None."""
-    return counterexample_from(scheme, Reach(scheme))
+    return counterexample_by(scheme, Reach(scheme).shortest())
 
 
-def counterexample_from(scheme, reach):
-    """A counterexample of a scheme whose reached snapshots are known, or None."""
-    path = reach.shortest()
+def counterexample_by(scheme, path):
+    """A counterexample of a scheme that follows a path whose last event alone is wrong, or None for no path."""
     if path is None:
         return None
     events = history_of(scheme, path)
@@ -156,9 +156,5 @@ def counterexample_from(scheme, reach):
 
 def _stays_within(frame, members, snapshot):
     """Whether each event that is possible at a snapshot is right and leads to one of the members."""
-    due = Case(frame, snapshot).due()
-    for event in frame.possible_events(snapshot):
-        case = case_behind(frame, snapshot, event)
-        if not case.is_right_behind(due) or case.told() not in members:
-            return False
-    return True
+    outcomes = Outcomes(frame).outcomes_at(snapshot)
+    return all([is_right and behind in members for _, is_right, behind in outcomes])

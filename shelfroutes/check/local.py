@@ -4,7 +4,7 @@ from shelfroutes.base.names import is_tuple
 from shelfroutes.check.cases import Case, case_behind
 from shelfroutes.check.frames import MAX_LISTED, STATES, frame_of
 from shelfroutes.check.histories import is_counterexample
-from shelfroutes.check.invariants import MAX_SNAPSHOTS, Reach, counterexample_from, is_invariant
+from shelfroutes.check.invariants import MAX_SNAPSHOTS, Reach, counterexample_by, is_invariant
 from shelfroutes.check.uses import are_closed, are_items, are_uses, least_uses
 from shelfroutes.errors import InvalidOperation, InvalidSnapshot, TooMany
 from shelfroutes.plan.stores import is_store
@@ -72,7 +72,7 @@ def certificate_of(scheme):
     if local is not None:
         return local
     reach = Reach(scheme)
-    return counterexample_from(scheme, reach) if reach.invariant is None else reach.invariant
+    return counterexample_by(scheme, reach.shortest()) if reach.invariant is None else reach.invariant
 
 
 def is_certificate(scheme, value):

@@ -1,9 +1,11 @@
 """Lean schemes: right ones from which no step can be left out."""
 
 from shelfroutes.base.names import is_same, is_tuple
+from shelfroutes.check.frames import Frame
 from shelfroutes.check.histories import is_counterexample
-from shelfroutes.check.invariants import counterexample_of
+from shelfroutes.check.invariants import ReachSearch, counterexample_by
 from shelfroutes.check.local import is_right_scheme, local_of
+from shelfroutes.check.outcomes import ChangedOutcomes, KeptOutcomes
 from shelfroutes.errors import InvalidOperation, InvalidPlan
 from shelfroutes.plan.schemes import check_scheme
 from shelfroutes.run.guarded import Guard
@@ -31,8 +33,9 @@ def can_leave_out(scheme, place):
 def is_lean(scheme):
     """Whether no step of a right scheme can be left out."""
     Guard.check(scheme)
+    outcomes = KeptOutcomes(Frame(scheme))
     for place in _all_places(scheme):
-        if _can_go(scheme, place):
+        if LeftOut(scheme, place, outcomes).is_enough:
             return False
     return True
 
@@ -86,25 +89,32 @@ class Diet:
         self.reasons = []
         at = 0
         told = _all_places(self.left)
+        outcomes = KeptOutcomes(Frame(self.left))
         while at < len(told):
-            attempt = LeftOut(self.left, told[at])
+            attempt = LeftOut(self.left, told[at], outcomes)
             if attempt.is_enough:
                 self.gone.append(told[at])
                 self.left = attempt.rest
                 told = _all_places(self.left)
+                outcomes = KeptOutcomes(Frame(self.left))
             else:
                 self.reasons.append((told[at], attempt.reason))
                 at = at + 1
 
 
 class LeftOut:
-    """A scheme without one step: no scheme at all, a right one, or a wrong one with a counterexample as its reason."""
+    """A scheme without one step: no scheme at all, a right one, or a wrong one with a counterexample as its reason.
 
-    def __init__(self, scheme, place):
+    What events do in the scheme itself is asked for again and again: one step changes little of it.
+    """
+
+    def __init__(self, scheme, place, outcomes):
         self.rest = _rest_of(scheme, place)
         self.reason = None
         if self.rest is not None and local_of(self.rest) is None:
-            self.reason = counterexample_of(self.rest)
+            frame = Frame(self.rest)
+            changed = ChangedOutcomes(frame, outcomes, place[:4] if place[0] == "plan" else place[:3])
+            self.reason = counterexample_by(self.rest, ReachSearch(frame.beginning(), changed).shortest_path())
         self.is_enough = self.rest is not None and self.reason is None
 
 
