@@ -1,6 +1,7 @@
 """Snapshots at work: what events do to one full match and its further rows."""
 
 from shelfroutes.check.frames import MAX_COPIES, is_worth_listing
+from shelfroutes.plan.steps import sign_for
 
 
 class Further:
@@ -230,8 +231,9 @@ class Course:
         self._numbers = {None: number if case.has_counted(side) != was_counted else 0}
 
     def _emit(self):
+        sort = self._case.frame.sorts.get(self._role, "core")
         for index in self._numbers:
-            sign = self._case.frame.sign(self._word, self._role, index is not None)
+            sign = sign_for(sort, self._word, index is not None)
             self._case.emit(index, sign * self._numbers[index])
 
 

@@ -2,7 +2,6 @@
 
 from shelfroutes.base.names import is_integer, is_same, is_tuple
 from shelfroutes.plan.schemes import check_scheme
-from shelfroutes.plan.steps import WORDS, sign_of
 from shelfroutes.plan.stores import is_core_store, is_store
 
 STATES = ("gone", "in", "out")
@@ -29,8 +28,7 @@ class Frame:
         self.stores_of = {side: tuple([name for name in entries if entries[name] == ("plain", (side,))])
                           for side in query.sides}
         self.counter_of = {entries[name][1]: name for name in entries if not is_store(entries[name])}
-        self._routes = _routes_of(scheme)
-        self._signs = _signs_of(query)
+        self._plans = scheme.plans
 
     def has_flag(self, side):
         """Whether a side role has a flag, not a counter."""
@@ -38,11 +36,7 @@ class Frame:
 
     def routes(self, plan, word, role):
         """The pipelines of a pair in a plan."""
-        return self._routes.get((plan, word, role), ())
-
-    def sign(self, word, role, has_optional):
-        """The sign of what a pipeline of a pair emits, with the optional role in its matches or without it."""
-        return self._signs[word, role, has_optional]
+        return self._plans[plan][word, role]
 
     def beginning(self):
         """The snapshot of the empty engine with the first plan."""
@@ -116,19 +110,6 @@ def frame_of(scheme):
     """The frame of a value that has to be a scheme."""
     check_scheme(scheme)
     return Frame(scheme)
-
-
-def _routes_of(scheme):
-    """The pipelines of all plans, by the name of the plan and the pair."""
-    plans = scheme.plans
-    return {(name, word, role): plans[name][word, role] for name in plans for word, role in plans[name]}
-
-
-def _signs_of(query):
-    """The signs of all pairs, with the optional role, if there is one, and without it."""
-    choices = (False,) if query.optional is None else (False, True)
-    return {(word, role, has_optional): sign_of(query, word, role, optional=has_optional)
-            for word in WORDS for role in query.roles for has_optional in choices}
 
 
 def is_worth_listing(row):

@@ -99,9 +99,14 @@ def sign_of(query, word, role, *, optional=False):
     _check_word_and_role(query, word, role)
     if not isinstance(optional, bool) or (optional and query.optional is None):
         raise InvalidOperation("not a boolean, or there is no optional role")
+    return sign_for(query.sort_of(role), word, optional)
+
+
+def sign_for(sort, word, has_optional):
+    """1 if an emit step for a word and a role of this sort emits, -1 if it retracts."""
     sign = 1 if word == "add" else -1
     # A row of a "none" role takes results away, and so does one of the optional role: the gap.
-    takes_away = query.sort_of(role) == "none" or (role == query.optional and not optional)
+    takes_away = sort == "none" or (sort == "optional" and not has_optional)
     return -sign if takes_away else sign
 
 

@@ -35,6 +35,10 @@ class Query:
         self._tests = tests
         self._core = tuple([role for role in self._roles if self._roles[role][0] == "core"])
         self._sides = tuple([role for role in self._roles if self._roles[role][0] != "core"])
+        self._ties = {side: self._roles_tied_to(side) for side in self._sides}
+
+    def _roles_tied_to(self, side):
+        return tuple([role for role in self._core if self.pairs(side, role) != ()])
 
     @staticmethod
     def is_sort(value):
@@ -117,7 +121,7 @@ class Query:
         """The ascending tuple of the core roles with which a side role has tests."""
         if self.sort_of(role) == "core":
             raise InvalidOperation("a core role has no ties")
-        return tuple([core for core in self._core if self.pairs(role, core) != ()])
+        return self._ties[role]
 
     def pairs(self, role, other):
         """The ascending tuple of the pairs of columns of two roles that tests compare."""
