@@ -50,9 +50,8 @@ def told_meant(scheme, name, snapshot):
                    and scheme.stores[other][1][0] in query.core]
     lazy = [other for other in sorted(scheme.stores) if scheme.stores[other][0] == "lazy"]
     if name in core_stores:
-        if name in lazy and not loaded[lazy.index(name)]:
-            return True
-        return copies[core_stores.index(name)] == (1 if set(entry[1]) <= there else 0)
+        is_open = name not in lazy or loaded[lazy.index(name)]
+        return copies[core_stores.index(name)] == (1 if set(entry[1]) <= there and is_open else 0)
     if entry[0] == "plain":
         side, = entry[1]
         own = [other for other in sorted(scheme.stores) if scheme.stores[other] == entry]
@@ -90,16 +89,16 @@ def told_meant_snapshots(scheme, uses):
                 for loaded in itertools.product((False, True), repeat=len(lazy)):
                     for sides in itertools.product(*listings):
                         found.append((plan, states, copies, loaded, sides))
-    return [snapshot for snapshot in found if told_is_meant_for(scheme, uses, snapshot, core_stores, lazy)]
+    return [snapshot for snapshot in found if told_is_meant_for(scheme, uses, snapshot, core_stores)]
 
 
-def told_is_meant_for(scheme, uses, snapshot, core_stores, lazy):
-    plan, states, copies, loaded, sides = snapshot
+def told_is_meant_for(scheme, uses, snapshot, core_stores):
+    plan, states, copies, _, sides = snapshot
     names, query = uses[plan], scheme.query
     if not all(told_meant(scheme, name, snapshot) for name in names):
         return False
     for name, many in zip(core_stores, copies):
-        if many and (name not in names or (name in lazy and not loaded[lazy.index(name)])):
+        if many and name not in names:
             return False
     there = {role for role, state in zip(query.core, states) if state == "in"}
     for side, (flag, rows) in zip(query.sides, sides):
@@ -166,8 +165,10 @@ class Meant(unittest.TestCase):
             for is_counted in (False, True):
                 row = ("flat", ("in", "in", "in"), (0, 0, 1, 1), (), ((None, ((is_in, (1,), is_counted),)),))
                 self.assertEqual([meant(("nb",), row), meant(("sb",), row)], [is_in == is_counted, is_in])
-        for loaded, many, told in ((False, 2, True), (False, 0, True), (True, 1, False), (True, 0, True)):
-            snapshot = ("flat", ("in", "out", "in", "in"), (many, 1, 0, 0, 1, 1), (loaded,), ())
+        for state, loaded, many, told in (
+                ("out", False, 0, True), ("out", False, 1, False), ("out", True, 1, False), ("out", True, 0, True),
+                ("in", False, 0, True), ("in", False, 1, False), ("in", True, 1, True), ("in", True, 0, False), ("in", True, 2, False)):
+            snapshot = ("flat", ("in", state, "in", "in"), (many, 1, 0, 0, 1, 1), (loaded,), ())
             self.assertIs(is_meant(lazy_one(), ("lcio",), snapshot), told)
 
     def test_errors(self):
@@ -408,7 +409,7 @@ class Certificates(unittest.TestCase):
         self.assertIs(is_fault(scheme, (("wide",) + kept[1:], ("add", "i"))), False)
 
     def test_copies_in_lazy_stores_that_are_not_loaded(self):
-        """A store whose key is not loaded holds nothing in a meant snapshot, as [10.3] tells."""
+        """A store whose key is not loaded holds nothing in a meant snapshot."""
         scheme = lazy_one("clear lcio")
         fault = fault_of(scheme)
         self.assertIs(is_fault(scheme, fault), True)

@@ -177,9 +177,9 @@ def _is_as_meant(case, name):
     """Whether a store or a counter is as meant."""
     entry = case.frame.entries[name]
     if name in case.copies:
-        if not case.are_open.get(name, True):
-            return True
-        return case.copies[name] == int(all([case.states[role] == "in" for role in entry[1]]))
+        # A lazy store whose key is not loaded is meant to hold nothing.
+        is_told = case.are_open.get(name, True) and all([case.states[role] == "in" for role in entry[1]])
+        return case.copies[name] == int(is_told)
     if is_store(entry):
         return all([row.copies[name] == int(row.is_in) for row in case.listed[entry[1][0]]])
     side = entry[1]
